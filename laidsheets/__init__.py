@@ -1,0 +1,1 @@
+"""Laidsheets: in which order sheets were laid over one another."""

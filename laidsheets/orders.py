@@ -1,0 +1,47 @@
+"""Orders: [6] of the document."""
+
+from laidsheets.piles import HOLE, is_integer, is_tuple, letters_of
+from laidsheets.reasons import find_reason, mask_of, reasons_by_sheet, take_off
+
+
+def is_row(count, value):
+    """Returns whether any value is a tuple with each of so many sheets once."""
+    if not is_tuple(value, count) or not all([is_integer(s) for s in value]):
+        return False
+    return sorted(value) == list(range(count))
+
+
+def is_order(case, value):
+    """Returns whether any value is an order that meets a case."""
+    table = reasons_by_sheet(case)
+    if not is_row(len(table), value):
+        return False
+    left = mask_of(value)
+    for s in value:
+        if find_reason(table[s], left) is not None:
+            return False
+        left -= 1 << s
+    return True
+
+
+def find_order(case):
+    """Returns the least order that meets a case, or None if there is none."""
+    table = reasons_by_sheet(case)
+    off = take_off(table)
+    if len(off) < len(table):
+        return None
+    return tuple(off)
+
+
+def seen(pile, order):
+    """Returns for each row of the board a string with the seen letters and '.' elsewhere."""
+    rows, columns, sheets = pile
+    shown = {}
+    # From the lowest sheet up, so that the topmost letter at a cell is the one that stays.
+    for s in order[::-1]:
+        for cell, letter in letters_of(sheets[s]):
+            shown[cell] = letter
+    lines = []
+    for row in range(rows):
+        lines.append("".join([shown.get((row, column), HOLE) for column in range(columns)]))
+    return tuple(lines)

@@ -1,0 +1,138 @@
+"""What the document says of piles, orders and jams, word for word and by trying all: slow, and without the program."""
+
+from itertools import combinations, permutations
+
+from tests.samples import shown_at
+
+
+def is_int(value):
+    return type(value) is int
+
+
+def pile_holds(value):
+    if type(value) is not tuple or len(value) != 3:
+        return False
+    rows, columns, sheets = value
+    if not (is_int(rows) and is_int(columns) and rows in range(1, 9) and columns in range(1, 9)):
+        return False
+    return type(sheets) is tuple and len(sheets) in range(1, 11) and all(sheet_holds(rows, columns, s) for s in sheets)
+
+
+def sheet_holds(rows, columns, value):
+    if type(value) is not tuple or len(value) != 3:
+        return False
+    row, column, picture = value
+    if not (is_int(row) and is_int(column) and type(picture) is tuple and picture):
+        return False
+    signs = "abcdefghijklmnopqrstuvwxyz."
+    for line in picture:
+        if type(line) is not str or not line or len(line) != len(picture[0]) or any(sign not in signs for sign in line):
+            return False
+    if "".join(picture).strip(".") == "":
+        return False
+    cells = [(row + down, column + right) for down in range(len(picture)) for right in range(len(picture[0]))]
+    return all(r in range(rows) and c in range(columns) for r, c in cells)
+
+
+def covers(pile, s, cell):
+    """The letter of a sheet at a cell, or None if the sheet does not cover it."""
+    return shown_at((pile[0], pile[1], {s: pile[2][s]}), [s], cell)
+
+
+def covered_cells(pile):
+    board = [(row, column) for row in range(pile[0]) for column in range(pile[1])]
+    sheets = range(len(pile[2]))
+    here = {cell: [(s, covers(pile, s, cell)) for s in sheets if covers(pile, s, cell)] for cell in board}
+    return {cell: here[cell] for cell in board if here[cell]}
+
+
+def reading_holds(value):
+    return type(value) is str and list(value) == [sign for sign in "abcdefghijklmnopqrstuvwxyz" if sign in value]
+
+
+def view_holds(pile, value):
+    if type(value) is not dict:
+        return False
+    cells = [repr(cell) for cell in covered_cells(pile)]
+    return all(repr(cell) in cells and reading_holds(value[cell]) for cell in value)
+
+
+def saying_holds(pile, value):
+    sheets = range(len(pile[2]))
+    for s in sheets:
+        rest = [other for other in sheets if other != s]
+        for many in range(1, len(rest) + 1):
+            for others in combinations(rest, many):
+                if repr(value) == repr((s, others)):
+                    return True
+    return False
+
+
+def case_holds(value):
+    if type(value) is not tuple or len(value) != 3 or not pile_holds(value[0]) or not view_holds(value[0], value[1]):
+        return False
+    sayings = value[2]
+    return type(sayings) is tuple and len(sayings) < 7 and all(saying_holds(value[0], saying) for saying in sayings)
+
+
+def meets(case, order):
+    pile, view, sayings = case
+    if any(shown_at(pile, order, cell) not in list(view[cell]) for cell in view):
+        return False
+    return all(any(order.index(other) < order.index(s) for other in others) for s, others in sayings)
+
+
+def all_orders(case):
+    return [order for order in permutations(range(len(case[0][2]))) if meets(case, order)]
+
+
+def can_be_next(case, gone, s):
+    """Whether a sheet meets the case as the topmost one of those that are left when some are gone."""
+    pile, view, sayings = case
+    for cell in view:
+        letter = covers(pile, s, cell)
+        if letter is not None and letter not in list(view[cell]):
+            if not any(covers(pile, other, cell) for other in gone):
+                return False
+    return all(any(other in gone for other in others) for about, others in sayings if about == s)
+
+
+def all_taken(case):
+    found = set()
+    for row in permutations(range(len(case[0][2]))):
+        for at, s in enumerate(row):
+            if not can_be_next(case, row[:at], s):
+                break
+            found.add(s)
+    return tuple(sorted(found))
+
+
+def reasons(case, s, among):
+    """All reasons of a sheet within some sheets."""
+    pile, view, sayings = case
+    found = []
+    for cell in view:
+        letter = covers(pile, s, cell)
+        if letter is not None and letter not in list(view[cell]):
+            if all(other in among for other in range(len(pile[2])) if covers(pile, other, cell)):
+                found.append(("cell", cell))
+    for i, (about, others) in enumerate(sayings):
+        if about == s and set(others) <= set(among):
+            found.append(("saying", i))
+    return found
+
+
+def jam_holds(case, value):
+    if type(value) is not dict or not value:
+        return False
+    sheets = range(len(case[0][2]))
+    if not all(is_int(s) and s in sheets for s in value):
+        return False
+    return all(repr(value[s]) in [repr(reason) for reason in reasons(case, s, list(value))] for s in value)
+
+
+def some_jam(case):
+    """Whether some sheets have a reason each within themselves."""
+    sheets = range(len(case[0][2]))
+    return any(all(reasons(case, s, among) for s in among)
+               for many in range(1, len(sheets) + 1) for among in combinations(sheets, many))

@@ -1,0 +1,180 @@
+"""Values for the tests: those of the document's examples, cases by chance, and wrong values."""
+
+import random
+
+PILE = (1, 3, ((0, 0, ("aa",)), (0, 1, ("bb",)), (0, 0, ("c.c",))))
+CASE = (PILE, {(0, 0): "a", (0, 1): "b"}, ())
+JAMMED = (PILE, {(0, 0): "a", (0, 1): "b", (0, 2): "c"}, ())
+
+ONE = (1, 1, ((0, 0, ("a",)),))
+TEN = (2, 8, tuple((s % 2, s % 7, ("ab" if s % 3 else "b.",)) for s in range(10)))
+BOARD = (8, 8, ((0, 0, ("a" * 8,) * 8), (7, 7, ("z",)), (0, 7, ("m",)), (3, 3, (".b.", "b.b", ".b."))))
+
+
+def deep(levels):
+    """A value that is nested so deep, of tuples, lists and dicts by turns."""
+    value = 0
+    for level in range(levels):
+        value = [(value,), [value], {"k": value}][level % 3]
+    return value
+
+
+def deep_tuple(levels):
+    value = ()
+    for _ in range(levels):
+        value = (value,)
+    return value
+
+
+WRONG = [
+    None, True, False, 0, 1, -1, 10 ** 30 - 1, -(10 ** 30) + 1, "", "a", "cell", "saying", "A", "x" * 200,
+    (), (0,), (1, 2), (0, 1, 2), (0, (1,)), ((),), ("a",), ("", ""), (None, None), (None, None, None),
+    ("cell", "cell", "cell"), (1, 1, 1), ([], [], []), ({}, {}, {}), ((), (), ()),
+    [], [0], [0, 1, 2], [1, 0, 2], [()], ["a"], [[]],
+    {}, {0: 0}, {"a": "a"}, {None: None}, {(): ""}, {(0,): "a"}, {(0, 0, 0): "a"}, {True: "a"}, {"": ()},
+    deep(12), deep_tuple(12), (deep(11), deep(11)), (deep(11), deep(11), deep(11)), {deep_tuple(8): deep(8)},
+    tuple(range(40000)), list(range(40000)), {n: "a" for n in range(40000)}, {(n, n): "a" for n in range(10000)},
+]
+
+
+def some_picture(rng, rows, columns, letters):
+    """A picture of at most so many rows and columns; it has a letter."""
+    high, wide = rng.randint(1, rows), rng.randint(1, columns)
+    signs = [[rng.choice(letters + "." * (len(letters) // 2)) for _ in range(wide)] for _ in range(high)]
+    signs[rng.randrange(high)][rng.randrange(wide)] = rng.choice(letters)
+    return tuple("".join(line) for line in signs)
+
+
+def some_pile(rng, most_sheets, letters="abc"):
+    rows, columns = rng.randint(1, 3), rng.randint(1, 3)
+    sheets = []
+    for _ in range(rng.randint(1, most_sheets)):
+        picture = some_picture(rng, rows, columns, letters)
+        row = rng.randint(0, rows - len(picture))
+        column = rng.randint(0, columns - len(picture[0]))
+        sheets.append((row, column, picture))
+    return rows, columns, tuple(sheets)
+
+
+def some_reading(rng, letters="abc"):
+    return "".join(letter for letter in letters if rng.random() < 0.5)
+
+
+def shown_at(pile, order, cell):
+    """The letter that is seen at a covered cell, looked up from the topmost sheet down."""
+    for s in order:
+        row, column, picture = pile[2][s]
+        down, right = cell[0] - row, cell[1] - column
+        if 0 <= down < len(picture) and 0 <= right < len(picture[0]) and picture[down][right] != ".":
+            return picture[down][right]
+    return None
+
+
+def some_view(rng, pile, order):
+    """A view by chance; with an order its readings fit it, else perhaps none does."""
+    view = {}
+    for row in range(pile[0]):
+        for column in range(pile[1]):
+            letter = shown_at(pile, range(len(pile[2])) if order is None else order, (row, column))
+            if letter is not None and rng.random() < 0.7:
+                more = some_reading(rng)
+                keep = "" if order is None else letter
+                view[(row, column)] = "".join(sorted(set(more + keep)))
+    keys = list(view)
+    rng.shuffle(keys)
+    return {key: view[key] for key in keys}
+
+
+def some_sayings(rng, pile, order, least=0):
+    """At most six sayings by chance; with an order they all hold in it."""
+    sheets = list(range(len(pile[2])))
+    sayings = []
+    if len(sheets) == 1:
+        return ()
+    for _ in range(rng.randint(least, 6)):
+        s = rng.choice(sheets) if order is None else rng.choice(order[1:])
+        rest = [other for other in sheets if other != s]
+        others = set(rng.sample(rest, rng.randint(1, min(3, len(rest)))))
+        if order is not None:
+            others.add(rng.choice(order[:order.index(s)]))
+        sayings.append((s, tuple(sorted(others))))
+    return tuple(sayings)
+
+
+def some_cases(seed, many, most_sheets=5):
+    """So many cases: by turns with readings, with sayings, with both, built round an order or not."""
+    rng = random.Random(seed)
+    cases = []
+    for number in range(many):
+        pile = some_pile(rng, most_sheets)
+        order = None
+        if number % 2:
+            order = list(range(len(pile[2])))
+            rng.shuffle(order)
+        kind = number // 2 % 3
+        view = {} if kind == 1 else some_view(rng, pile, order)
+        sayings = () if kind == 0 else some_sayings(rng, pile, order, 1)
+        cases.append((pile, view, sayings))
+    return cases
+
+
+SCRAPS = [None, True, False, 0, 1, 2, 7, 8, 9, -1, "", "a", "b", "z", ".", "A", "ba", "aa", "cell", "saying",
+          (), (0,), (1,), (0, 0), (0, 1), (1, 0), [], {}, [0, 1], {0: 0}]
+
+
+def changed_once(rng, value):
+    """The value, changed in one place: an item other, gone, twice, moved, or of another kind."""
+    if isinstance(value, (tuple, list)) and value and rng.random() < 0.85:
+        items = list(value)
+        at = rng.randrange(len(items))
+        if rng.random() < 0.65:
+            items[at] = changed_once(rng, items[at])
+        else:
+            change_items(rng, items, at)
+        return type(value)(items)
+    if isinstance(value, dict) and value and rng.random() < 0.85:
+        return changed_dict(rng, value)
+    return changed_leaf(rng, value)
+
+
+def change_items(rng, items, at):
+    act = rng.randrange(4)
+    if act == 0:
+        del items[at]
+    elif act == 1:
+        items.insert(at, items[at])
+    elif act == 2:
+        items.insert(at, rng.choice(SCRAPS))
+    else:
+        other = rng.randrange(len(items))
+        items[at], items[other] = items[other], items[at]
+
+
+def changed_dict(rng, value):
+    key = rng.choice(list(value))
+    act = rng.randrange(4)
+    if act == 0:
+        return {k: changed_once(rng, value[k]) if k == key else value[k] for k in value}
+    if act == 1:
+        return {k: value[k] for k in value if k != key}
+    new = changed_once(rng, key)
+    try:
+        hash(new)
+    except TypeError:
+        new = None
+    if act == 2:
+        return {(new if k == key else k): value[k] for k in value}
+    return {**value, new: value[key]}
+
+
+def changed_leaf(rng, value):
+    if isinstance(value, int) and rng.random() < 0.8:
+        return rng.choice([value + 1, value - 1, bool(value), str(value), (value,), -value])
+    if isinstance(value, str) and value and rng.random() < 0.8:
+        at = rng.randrange(len(value))
+        sign = rng.choice(".abcxyzAZ{` 0")
+        return rng.choice([value + value[at], value[:at] + value[at + 1:], value[:at] + sign + value[at + 1:],
+                           value.upper(), value[::-1], list(value), tuple(value), value.encode()])
+    if isinstance(value, tuple) and rng.random() < 0.6:
+        return list(value)
+    return rng.choice(SCRAPS)

@@ -1,0 +1,67 @@
+"""The examples of the document, as they stand there; stage by stage."""
+
+import doctest
+import pathlib
+import unittest
+
+from laidsheets.jams import find_jam, is_jam, taken
+from laidsheets.orders import find_order, is_order, seen
+from laidsheets.piles import covered, is_case, is_pile, is_saying, is_view
+
+CONVENTIONS = """
+    >>> PILE = (1, 3, ((0, 0, ('aa',)), (0, 1, ('bb',)), (0, 0, ('c.c',))))
+    >>> CASE = (PILE, {(0, 0): 'a', (0, 1): 'b'}, ())
+    >>> JAMMED = (PILE, {(0, 0): 'a', (0, 1): 'b', (0, 2): 'c'}, ())
+    >>> LOOSE = (1, 3, ((((0, 0), (0, 1)), ('aa',)), (((0, 1),), ('bb',))))
+    >>> ASKED = (LOOSE, {(0, 0): 'a', (0, 1): 'b'}, ())
+"""
+
+PILES = """
+    >>> [is_pile(PILE), is_case(CASE), is_view(PILE, {(0, 3): 'a'}), is_saying(PILE, (1, (0, 2))), is_saying(PILE, (1, (1,)))]
+    [True, True, False, True, False]
+    >>> covered(PILE) == {(0, 0): [(0, 'a'), (2, 'c')], (0, 1): [(0, 'a'), (1, 'b')], (0, 2): [(1, 'b'), (2, 'c')]}
+    True
+"""
+
+ORDERS = """
+    >>> [find_order(CASE), find_order(JAMMED), is_order(CASE, (1, 0, 2)), is_order(CASE, (0, 1, 2)), seen(PILE, (1, 0, 2))]
+    [(1, 0, 2), None, True, False, ('abb',)]
+"""
+
+JAMS = """
+    >>> [find_jam(CASE), taken(CASE), taken(JAMMED), is_jam(JAMMED, {0: ('cell', (0, 1)), 1: ('cell', (0, 2)), 2: ('cell', (0, 0))})]
+    [None, (0, 1, 2), (), True]
+    >>> is_jam(JAMMED, {0: ('cell', (0, 1)), 1: ('cell', (0, 2))})
+    False
+"""
+
+NAMES = (covered, find_jam, find_order, is_case, is_jam, is_order, is_pile, is_saying, is_view, seen, taken)
+
+
+class Examples(unittest.TestCase):
+    def check(self, text):
+        names = {function.__name__: function for function in NAMES}
+        test = doctest.DocTestParser().get_doctest(CONVENTIONS + text, names, "the document", None, None)
+        self.assertGreater(len(test.examples), 5)
+        told = []
+        result = doctest.DocTestRunner(verbose=False).run(test, out=told.append)
+        self.assertEqual(result.failed, 0, "".join(told))
+
+    def test_piles(self):
+        self.check(PILES)
+
+    def test_orders(self):
+        self.check(ORDERS)
+
+    def test_jams(self):
+        self.check(JAMS)
+
+    def test_readme(self):
+        readme = pathlib.Path(__file__).resolve().parent.parent / "README.md"
+        result = doctest.testfile(str(readme), module_relative=False)
+        self.assertGreater(result.attempted, 7)
+        self.assertEqual(result.failed, 0)
+
+
+if __name__ == "__main__":
+    unittest.main()

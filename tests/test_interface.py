@@ -1,0 +1,37 @@
+"""The interface: each name exists, is defined in its own file, and takes the arguments that are listed."""
+
+import importlib
+import inspect
+import unittest
+
+FUNCTIONS = {
+    "piles": ("is_pile(value)", "is_case(value)", "is_view(pile, value)", "is_saying(pile, value)", "covered(pile)"),
+    "orders": ("is_order(case, value)", "find_order(case)", "seen(pile, order)"),
+    "jams": ("taken(case)", "find_jam(case)", "is_jam(case, value)"),
+}
+
+ERRORS = {"LaidsheetsError": None, "InvalidEvent": "(event)", "Refused": "(jam)"}
+
+
+class Interface(unittest.TestCase):
+    def test_functions(self):
+        for name in FUNCTIONS:
+            module = importlib.import_module("laidsheets." + name)
+            for line in FUNCTIONS[name]:
+                function = getattr(module, line.partition("(")[0])
+                self.assertTrue(inspect.isfunction(function))
+                self.assertEqual(function.__module__, module.__name__)
+                self.assertEqual(function.__name__ + str(inspect.signature(function)), line)
+
+    def test_errors(self):
+        module = importlib.import_module("laidsheets.errors")
+        for name in ERRORS:
+            error = getattr(module, name)
+            self.assertTrue(inspect.isclass(error))
+            self.assertEqual(error.__module__, module.__name__)
+            if ERRORS[name] is not None:
+                self.assertEqual(str(inspect.signature(error)), ERRORS[name])
+
+
+if __name__ == "__main__":
+    unittest.main()
