@@ -1,7 +1,7 @@
 """Orders: [6] of the document."""
 
 from laidsheets.piles import HOLE, is_integer, is_tuple, letters_of
-from laidsheets.reasons import find_reason, mask_of, reasons_by_sheet, take_off
+from laidsheets.reasons import find_reason, finish_order, mask_of, reasons_by_sheet
 
 
 def is_row(count, value):
@@ -26,11 +26,7 @@ def is_order(case, value):
 
 def find_order(case):
     """Returns the least order that meets a case, or None if there is none."""
-    table = reasons_by_sheet(case)
-    off = take_off(table)
-    if len(off) < len(table):
-        return None
-    return tuple(off)
+    return finish_order(reasons_by_sheet(case), [])
 
 
 def seen(pile, order):

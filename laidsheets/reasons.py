@@ -6,7 +6,7 @@ of some sheets exactly if certain sheets are all among these. Such a form is a t
 needed the mask of the certain sheets.
 """
 
-from laidsheets.piles import covered, is_cell, is_integer, is_tuple
+from laidsheets.piles import covered, is_cell, is_integer, is_number, is_tuple
 
 
 def mask_of(sheets):
@@ -15,6 +15,16 @@ def mask_of(sheets):
     for s in sheets:
         mask += 1 << s
     return mask
+
+
+def sheets_in(mask):
+    """Returns the ascending list of the sheets of a mask."""
+    return [s for s in range(mask.bit_length()) if mask & (1 << s)]
+
+
+def all_of(table):
+    """Returns the mask of all sheets of a table that has an item for each."""
+    return (1 << len(table)) - 1
 
 
 def reasons_by_sheet(case):
@@ -54,25 +64,51 @@ def is_reason(own, among, value):
     return any([reason == value and holds(needed, among) for reason, needed in own])
 
 
-def find_free(table, left):
-    """Returns the least of the sheets that are left which can be their topmost one, or None."""
-    for s, own in enumerate(table):
-        if left & (1 << s) and find_reason(own, left) is None:
-            return s
-    return None
+def are_reasons(table, stay, value):
+    """Returns whether any value is a dict from sheets, none of them in the mask stay, to a reason of each.
 
-
-def take_off(table):
-    """Returns the list of the sheets that can be taken off, the least one first each time.
-
-    A sheet that can be taken off once can be taken off later, too: with fewer sheets left it has
-    fewer reasons. So no choice on the way is wrong.
+    The reasons hold within these sheets and those of the mask.
     """
-    left = (1 << len(table)) - 1
+    if not isinstance(value, dict) or not all([is_number(s, 0, len(table) - 1) for s in value]):
+        return False
+    own = mask_of(value)
+    if (own & stay) != 0:
+        return False
+    return all([is_reason(table[s], own + stay, value[s]) for s in value])
+
+
+def free_sheets(table, left):
+    """Returns the ascending list of the sheets that are left which can be their topmost one."""
+    return [s for s in sheets_in(left) if find_reason(table[s], left) is None]
+
+
+def take_off(table, left, stay):
+    """Returns the list of the sheets that can be taken off those that are left, the least one first each time.
+
+    No sheet of the mask stay is taken off. A sheet that can be taken off once can be taken off later,
+    too: with fewer sheets left it has fewer reasons. So no choice on the way is wrong.
+    """
     off = []
-    s = find_free(table, left)
-    while s is not None:
-        off.append(s)
-        left -= 1 << s
-        s = find_free(table, left)
+    free = [s for s in free_sheets(table, left) if not stay & (1 << s)]
+    while free != []:
+        off.append(free[0])
+        left -= 1 << free[0]
+        free = [s for s in free_sheets(table, left) if not stay & (1 << s)]
     return off
+
+
+def finish_order(table, ahead):
+    """Returns an order that begins with a list of sheets, which can be taken off so, or None if there is none."""
+    order = ahead + take_off(table, all_of(table) - mask_of(ahead), 0)
+    if len(order) < len(table):
+        return None
+    return tuple(order)
+
+
+def stuck_reasons(table, stay):
+    """Returns a dict from each sheet that cannot be taken off while those of the mask stay lie there to a reason.
+
+    The reasons hold within all these sheets and those of the mask.
+    """
+    left = all_of(table) - mask_of(take_off(table, all_of(table), stay))
+    return {s: find_reason(table[s], left) for s in sheets_in(left - stay)}

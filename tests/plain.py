@@ -1,4 +1,4 @@
-"""What the document says of piles, orders and jams, word for word and by trying all: slow, and without the program."""
+"""What the document says of the first nine stages, word for word and by trying all: slow, and without the program."""
 
 from itertools import combinations, permutations
 
@@ -133,6 +133,58 @@ def jam_holds(case, value):
 
 def some_jam(case):
     """Whether some sheets have a reason each within themselves."""
+    return any(all(reasons(case, s, among) for s in among) for among in some_sheets(case, 10))
+
+
+def some_sheets(case, most):
+    """All tuples of one to so many different sheets of a case, ascending."""
     sheets = range(len(case[0][2]))
-    return any(all(reasons(case, s, among) for s in among)
-               for many in range(1, len(sheets) + 1) for among in combinations(sheets, many))
+    return [among for many in range(1, min(most, len(sheets)) + 1) for among in combinations(sheets, many)]
+
+
+def held_holds(case, s, t, value):
+    if type(value) is not dict or not all(is_int(key) and key in range(len(case[0][2])) for key in value):
+        return False
+    if t not in value or s in value:
+        return False
+    within = list(value) + [s]
+    return all(repr(value[key]) in [repr(reason) for reason in reasons(case, key, within)] for key in value)
+
+
+def some_held(case, s, t):
+    """Whether some sheets without s, t among them, have a reason each within themselves and s."""
+    return any(t in among and s not in among and all(reasons(case, key, among + (s,)) for key in among)
+               for among in some_sheets(case, 10))
+
+
+def stands_ahead(order, s, t):
+    return order.index(s) < order.index(t)
+
+
+def letters_down(pile, order, cell):
+    """The letters of the sheets that cover a cell, from the topmost sheet down."""
+    letters = [covers(pile, s, cell) for s in order]
+    return [letter for letter in letters if letter is not None]
+
+
+def tallied(values):
+    """A dict from each of some values to how often it is there."""
+    values = list(values)
+    return {value: values.count(value) for value in values}
+
+
+def first_counts(case, orders, cell):
+    return tallied(letters_down(case[0], order, cell)[0] for order in orders)
+
+
+def second_counts(case, orders, cell):
+    return tallied((letters_down(case[0], order, cell) + [""])[1] for order in orders)
+
+
+def best_cell(case, orders):
+    best = None
+    for cell in sorted(covered_cells(case[0])):
+        numbers = list(first_counts(case, orders, cell).values())
+        if len(numbers) > 1 and (best is None or max(numbers) < best[0]):
+            best = (max(numbers), cell)
+    return best and best[1]

@@ -5,6 +5,9 @@ import random
 PILE = (1, 3, ((0, 0, ("aa",)), (0, 1, ("bb",)), (0, 0, ("c.c",))))
 CASE = (PILE, {(0, 0): "a", (0, 1): "b"}, ())
 JAMMED = (PILE, {(0, 0): "a", (0, 1): "b", (0, 2): "c"}, ())
+FREE = (PILE, {}, ())
+FIRST = (PILE, {(0, 0): "a"}, ())
+EITHER = (PILE, {}, ((0, (1, 2)), (1, (0, 2))))
 
 ONE = (1, 1, ((0, 0, ("a",)),))
 TEN = (2, 8, tuple((s % 2, s % 7, ("ab" if s % 3 else "b.",)) for s in range(10)))
@@ -116,6 +119,11 @@ def some_cases(seed, many, most_sheets=5):
         sayings = () if kind == 0 else some_sayings(rng, pile, order, 1)
         cases.append((pile, view, sayings))
     return cases
+
+
+def stacked(letters):
+    """A pile of one cell, with a sheet for each letter."""
+    return (1, 1, tuple((0, 0, (letter,)) for letter in letters))
 
 
 SCRAPS = [None, True, False, 0, 1, 2, 7, 8, 9, -1, "", "a", "b", "z", ".", "A", "ba", "aa", "cell", "saying",

@@ -4,9 +4,14 @@ import doctest
 import pathlib
 import unittest
 
+from laidsheets.above import above_table, find_above, find_held
+from laidsheets.counts import count_orders, nth_order, number_of
 from laidsheets.jams import find_jam, is_jam, taken
+from laidsheets.letters import best_cell, letter_counts, order_showing
 from laidsheets.orders import find_order, is_order, seen
 from laidsheets.piles import covered, is_case, is_pile, is_saying, is_view
+from laidsheets.places import order_with, places
+from laidsheets.second import order_second, second_counts
 
 CONVENTIONS = """
     >>> PILE = (1, 3, ((0, 0, ('aa',)), (0, 1, ('bb',)), (0, 0, ('c.c',))))
@@ -35,7 +40,36 @@ JAMS = """
     False
 """
 
-NAMES = (covered, find_jam, find_order, is_case, is_jam, is_order, is_pile, is_saying, is_view, seen, taken)
+ABOVE = """
+    >>> [find_above(CASE, 1, 2), find_above(CASE, 2, 1), find_held(CASE, 1, 2), above_table(CASE)]
+    [(1, 0, 2), None, {0: ('cell', (0, 1)), 2: ('cell', (0, 0))}, [(0, 2), (1, 0), (1, 2)]]
+"""
+
+COUNTS = """
+    >>> [count_orders(CASE), count_orders(JAMMED), nth_order((PILE, {}, ()), 3), number_of((PILE, {}, ((0, (2,)),)), (2, 1, 0))]
+    [1, 0, (1, 2, 0), 2]
+"""
+
+PLACES = """
+    >>> [places(CASE, 0), places((PILE, {(0, 0): 'a'}, ()), 2), order_with(CASE, 0, 2), order_with(CASE, 0, 1)]
+    [[1], [1, 2], None, (1, 0, 2)]
+"""
+
+LETTERS = """
+    >>> [letter_counts(CASE, (0, 2)), letter_counts((PILE, {}, ()), (0, 0)), order_showing(CASE, (0, 2), 'c'), best_cell(CASE), best_cell((PILE, {}, ()))]
+    [{'b': 1}, {'a': 3, 'c': 3}, None, None, (0, 0)]
+"""
+
+SECOND = """
+    >>> [second_counts(CASE, (0, 1)), second_counts((PILE, {}, ()), (0, 0)), second_counts(((1, 1, ((0, 0, ('a',)),)), {}, ()), (0, 0))]
+    [{'a': 1}, {'a': 3, 'c': 3}, {'': 1}]
+    >>> [order_second(CASE, (0, 2), 'c'), order_second(CASE, (0, 2), 'b')]
+    [(1, 0, 2), None]
+"""
+
+NAMES = (above_table, best_cell, count_orders, covered, find_above, find_held, find_jam, find_order, is_case, is_jam,
+         is_order, is_pile, is_saying, is_view, letter_counts, nth_order, number_of, order_second, order_showing,
+         order_with, places, second_counts, seen, taken)
 
 
 class Examples(unittest.TestCase):
@@ -56,10 +90,25 @@ class Examples(unittest.TestCase):
     def test_jams(self):
         self.check(JAMS)
 
+    def test_above(self):
+        self.check(ABOVE)
+
+    def test_counts(self):
+        self.check(COUNTS)
+
+    def test_places(self):
+        self.check(PLACES)
+
+    def test_letters(self):
+        self.check(LETTERS)
+
+    def test_second(self):
+        self.check(SECOND)
+
     def test_readme(self):
         readme = pathlib.Path(__file__).resolve().parent.parent / "README.md"
         result = doctest.testfile(str(readme), module_relative=False)
-        self.assertGreater(result.attempted, 7)
+        self.assertGreater(result.attempted, 12)
         self.assertEqual(result.failed, 0)
 
 

@@ -8,6 +8,11 @@ FUNCTIONS = {
     "piles": ("is_pile(value)", "is_case(value)", "is_view(pile, value)", "is_saying(pile, value)", "covered(pile)"),
     "orders": ("is_order(case, value)", "find_order(case)", "seen(pile, order)"),
     "jams": ("taken(case)", "find_jam(case)", "is_jam(case, value)"),
+    "above": ("find_above(case, s, t)", "find_held(case, s, t)", "is_held(case, s, t, value)", "above_table(case)"),
+    "counts": ("count_orders(case)", "nth_order(case, n)", "number_of(case, order)"),
+    "places": ("places(case, s)", "order_with(case, s, place)"),
+    "letters": ("letter_counts(case, cell)", "order_showing(case, cell, letter)", "best_cell(case)"),
+    "second": ("second_counts(case, cell)", "order_second(case, cell, letter)"),
 }
 
 ERRORS = {"LaidsheetsError": None, "InvalidEvent": "(event)", "Refused": "(jam)"}

@@ -35,7 +35,7 @@ def own_names(tree):
             found.append(node.name)
         elif isinstance(node, ast.arg):
             found.append(node.arg)
-        elif isinstance(node, ast.Name) and not isinstance(node.ctx, ast.Load):
+        elif isinstance(node, ast.Name) and not isinstance(node.ctx, ast.Load) and node.id != "_":
             found.append(node.id)
     return found
 
@@ -106,7 +106,9 @@ class Language(unittest.TestCase):
             for word in re.findall(r"[A-Za-z_]+", ast.unparse(self.trees[name])):
                 self.assertNotIn(word, WORDS, name)
         for node, place in self.nodes(ast.Name):
-            if hasattr(builtins, node.id):
+            if node.id == "_":
+                self.assertNotIsInstance(node.ctx, ast.Load, place)
+            elif hasattr(builtins, node.id):
                 self.assertIn(node.id, BUILTINS, place)
 
     def test_l4_l6_l7_l23_l24_kinds_of_code(self):
@@ -131,6 +133,13 @@ class Language(unittest.TestCase):
         own += [node.name for node, _ in self.nodes(ast.FunctionDef)]
         for node, place in self.nodes(ast.Attribute):
             self.assertTrue(node.attr in METHODS or node.attr in own, f"{place}: {node.attr}")
+
+    def test_l24_a_set_stands_in_sorted_or_len(self):
+        places = [node.args[0] for node, _ in self.nodes(ast.Call)
+                  if isinstance(node.func, ast.Name) and node.func.id in ("sorted", "len") and not node.keywords]
+        for node, place in self.nodes(ast.Call):
+            if isinstance(node.func, ast.Name) and node.func.id in ("set", "frozenset"):
+                self.assertIn(node, places, place)
 
     def test_l22_keywords(self):
         for node, place in self.nodes(ast.Call):
