@@ -1,16 +1,11 @@
 """What lies above what in all orders, and held jams: [8] of the document."""
 
-from laidsheets.reasons import all_of, are_reasons, finish_order, reasons_by_sheet, stuck_reasons, take_off
+from laidsheets.reasons import are_reasons, order_ahead, reasons_by_sheet, stuck_reasons
 
 
 def find_above(case, s, t):
     """Returns an order that meets the case in which s stands ahead of t, or None if there is none."""
-    table = reasons_by_sheet(case)
-    # All that can go while t lies there goes first: if s is not among it, s lies under t in every order.
-    ahead = take_off(table, all_of(table), 1 << t)
-    if s not in ahead:
-        return None
-    return finish_order(table, ahead)
+    return order_ahead(reasons_by_sheet(case), s, 1 << t)
 
 
 def find_held(case, s, t):

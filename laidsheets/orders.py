@@ -1,7 +1,7 @@
 """Orders: [6] of the document."""
 
 from laidsheets.piles import HOLE, is_integer, is_tuple, letters_of
-from laidsheets.reasons import find_reason, finish_order, mask_of, reasons_by_sheet
+from laidsheets.reasons import comes_off, finish_order, reasons_by_sheet
 
 
 def is_row(count, value):
@@ -13,15 +13,12 @@ def is_row(count, value):
 
 def is_order(case, value):
     """Returns whether any value is an order that meets a case."""
-    table = reasons_by_sheet(case)
-    if not is_row(len(table), value):
-        return False
-    left = mask_of(value)
-    for s in value:
-        if find_reason(table[s], left) is not None:
-            return False
-        left -= 1 << s
-    return True
+    return is_order_of(reasons_by_sheet(case), value)
+
+
+def is_order_of(table, value):
+    """Returns whether any value is an order that meets the case that a table of reasons is of."""
+    return is_row(len(table), value) and comes_off(table, value)
 
 
 def find_order(case):

@@ -22,7 +22,7 @@ def is_tuple(value, size):
 
 
 def is_ascending(items):
-    """Returns whether each item of a string or a tuple of integers is greater than the one before it."""
+    """Returns whether each item of a string, or of a tuple of integers or of cells, is greater than the one before."""
     return all([low < high for low, high in zip(items, items[1:])])
 
 
@@ -66,12 +66,17 @@ def is_sheet(rows, columns, value):
     return 0 <= row <= rows - len(picture) and 0 <= column <= columns - len(picture[0])
 
 
+def is_board(rows, columns):
+    """Returns whether two values are the numbers of rows and columns of a board."""
+    return is_number(rows, 1, LONGEST_SIDE) and is_number(columns, 1, LONGEST_SIDE)
+
+
 def is_pile(value):
     """Returns whether any value is a pile."""
     if not is_tuple(value, 3):
         return False
     rows, columns, sheets = value
-    if not is_number(rows, 1, LONGEST_SIDE) or not is_number(columns, 1, LONGEST_SIDE):
+    if not is_board(rows, columns):
         return False
     if not isinstance(sheets, tuple) or not 1 <= len(sheets) <= MOST_SHEETS:
         return False
@@ -83,11 +88,14 @@ def is_case(value):
     if not is_tuple(value, 3):
         return False
     pile, view, sayings = value
-    if not is_pile(pile) or not is_view(pile, view):
+    return is_pile(pile) and is_view(pile, view) and are_sayings(pile, sayings)
+
+
+def are_sayings(pile, value):
+    """Returns whether any value is a tuple of at most six sayings about the sheets of a pile, or of a loose one."""
+    if not isinstance(value, tuple) or len(value) > MOST_SAYINGS:
         return False
-    if not isinstance(sayings, tuple) or len(sayings) > MOST_SAYINGS:
-        return False
-    return all([is_saying(pile, saying) for saying in sayings])
+    return all([is_saying(pile, saying) for saying in value])
 
 
 def is_view(pile, value):

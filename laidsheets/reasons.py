@@ -6,7 +6,7 @@ of some sheets exactly if certain sheets are all among these. Such a form is a t
 needed the mask of the certain sheets.
 """
 
-from laidsheets.piles import covered, is_cell, is_integer, is_number, is_tuple
+from laidsheets.piles import covered, is_ascending, is_cell, is_integer, is_number, is_tuple
 
 
 def mask_of(sheets):
@@ -22,6 +22,13 @@ def sheets_in(mask):
     return [s for s in range(mask.bit_length()) if mask & (1 << s)]
 
 
+def is_set(count, value):
+    """Returns whether any value is an ascending tuple of different ones of so many sheets."""
+    if not isinstance(value, tuple) or not all([is_number(s, 0, count - 1) for s in value]):
+        return False
+    return is_ascending(value)
+
+
 def all_of(table):
     """Returns the mask of all sheets of a table that has an item for each."""
     return (1 << len(table)) - 1
@@ -29,8 +36,12 @@ def all_of(table):
 
 def reasons_by_sheet(case):
     """Returns for each sheet the list of its (reason, needed): the cells ascending, then the sayings."""
+    return reasons_at(covered(case[0]), case)
+
+
+def reasons_at(cells, case):
+    """Returns what reasons_by_sheet returns; cells is what covered tells of the pile, for who has it already."""
     pile, view, sayings = case
-    cells = covered(pile)
     table = [[] for sheet in pile[2]]
     # Sorted, so that the order of the view's keys means nothing for what is found.
     for cell in sorted(view):
@@ -103,6 +114,25 @@ def finish_order(table, ahead):
     if len(order) < len(table):
         return None
     return tuple(order)
+
+
+def order_ahead(table, s, lower):
+    """Returns an order in which sheet s stands ahead of all sheets of the mask lower, or None if there is none."""
+    # All that can go while those lie there goes first: if s is not among it, s lies under one in every order.
+    ahead = take_off(table, all_of(table), lower)
+    if s not in ahead:
+        return None
+    return finish_order(table, ahead)
+
+
+def comes_off(table, row):
+    """Returns whether different sheets can be taken off just in this row."""
+    left = all_of(table)
+    for s in row:
+        if find_reason(table[s], left) is not None:
+            return False
+        left -= 1 << s
+    return True
 
 
 def stuck_reasons(table, stay):

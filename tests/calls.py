@@ -1,5 +1,11 @@
 """Calls that are watched: what [2] says of every call is tested at each call of a test."""
 
+from time import perf_counter
+
+# Each call is to answer in little time. Most take some thousandths of a second: so only a way that
+# grows far too fast comes near to this, and no slow machine.
+LONGEST = 5
+
 
 def turned(value):
     """An equal value of other objects, in which the keys of each dict were put in the other way round."""
@@ -34,11 +40,13 @@ def call(test, function, *arguments):
     """Calls a function several times, and returns what it returned.
 
     The test fails if an argument was changed, if equal arguments gave unequal results, if a list or a
-    dict of a result is one of an argument, of the other result or stands in the result twice, or if a
-    later result depends on what the caller does with an earlier one.
+    dict of a result is one of an argument, of the other result or stands in the result twice, if a
+    later result depends on what the caller does with an earlier one, or if a call took long.
     """
     before = repr(arguments)
+    began = perf_counter()
     first, second = function(*arguments), function(*arguments)
+    test.assertLess(perf_counter() - began, 2 * LONGEST, "the calls took too long")
     told = exact(first)
     test.assertEqual(repr(arguments), before, "an argument was changed")
     test.assertEqual(exact(second), told, "two calls gave unlike results")

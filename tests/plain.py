@@ -1,4 +1,4 @@
-"""What the document says of the first nine stages, word for word and by trying all: slow, and without the program."""
+"""What the document says, word for word and by trying all: slow, and without the program."""
 
 from itertools import combinations, permutations
 
@@ -188,3 +188,106 @@ def best_cell(case, orders):
         if len(numbers) > 1 and (best is None or max(numbers) < best[0]):
             best = (max(numbers), cell)
     return best and best[1]
+
+
+def part_holds(case, value):
+    pile, view, sayings = case
+    if type(value) is not tuple or not all(is_int(s) and s in range(len(pile[2])) for s in value):
+        return False
+    if any(value.count(s) > 1 for s in value):
+        return False
+    for cell in view:
+        letter = shown_at(pile, value, cell)
+        if letter is None or letter not in list(view[cell]):
+            return False
+    return all(any(other in value[:value.index(s)] for other in others) for s, others in sayings if s in value)
+
+
+def all_parts(case):
+    """All part orders of a case: all rows of no, some or all sheets are tried."""
+    sheets = range(len(case[0][2]))
+    return [row for many in range(len(sheets) + 1) for row in permutations(sheets, many) if part_holds(case, row)]
+
+
+def part_jam_holds(case, value):
+    if type(value) is not tuple or len(value) != 2:
+        return False
+    cell, jam = value
+    if repr(cell) not in [repr(key) for key in case[1]] or not jam_holds(case, jam):
+        return False
+    return all(s in jam for s in range(len(case[0][2])) if covers(case[0], s, cell))
+
+
+def misread_cells(case, order):
+    pile, view, sayings = case
+    return [cell for cell in view if shown_at(pile, order, cell) not in list(view[cell])]
+
+
+def let_by(case):
+    """All orders in which all sayings hold."""
+    return all_orders((case[0], {}, case[2]))
+
+
+def set_holds(case, value):
+    return repr(value) in [repr(some) for some in [()] + some_sheets(case, 10)]
+
+
+def steps(case, some):
+    """The (s, cost) of all steps from a set."""
+    pile, view, sayings = case
+    found = []
+    for s in range(len(pile[2])):
+        if s not in some and all(any(other in some for other in others) for about, others in sayings if about == s):
+            own = [cell for cell in view if covers(pile, s, cell) and covers(pile, s, cell) not in list(view[cell])]
+            found.append((s, len([cell for cell in own if not any(covers(pile, other, cell) for other in some)])))
+    return found
+
+
+def shows(case, value, number):
+    if type(value) is not dict or not all(set_holds(case, some) for some in value):
+        return False
+    if not all(is_int(value[some]) and value[some] >= 0 for some in value) or value.get((), 1) != 0:
+        return False
+    for some in value:
+        for s, cost in steps(case, some):
+            behind = tuple(sorted(some + (s,)))
+            if behind not in value or value[behind] > value[some] + cost:
+                return False
+    everything = tuple(range(len(case[0][2])))
+    return everything not in value or value[everything] >= number
+
+
+def glass_meets(glass, order):
+    case, under = glass
+    return meets(case, order) and all(shown_at(case[0], order[::-1], cell) in list(under[cell]) for cell in under)
+
+
+def all_glass_orders(glass):
+    return [order for order in all_orders(glass[0]) if glass_meets(glass, order)]
+
+
+def glass_steps(glass, some):
+    case, under = glass
+    pile = case[0]
+    found = []
+    for s, cost in steps(case, some):
+        below = [other for other in range(len(pile[2])) if other not in some and other != s]
+        own = [cell for cell in under if covers(pile, s, cell)]
+        lowest = [cell for cell in own if not any(covers(pile, other, cell) for other in below)]
+        if cost == 0 and all(covers(pile, s, cell) in list(under[cell]) for cell in lowest):
+            found.append(s)
+    return found
+
+
+def glass_table_holds(glass, value):
+    case = glass[0]
+    if type(value) is not list or not all(set_holds(case, some) for some in value):
+        return False
+    if any(value.count(some) > 1 for some in value) or () not in value or tuple(range(len(case[0][2]))) in value:
+        return False
+    return all(tuple(sorted(some + (s,))) in value for some in value for s in glass_steps(glass, some))
+
+
+def all_only(case, other):
+    """All orders that meet the first case and not the other one."""
+    return [order for order in all_orders(case) if not meets(other, order)]

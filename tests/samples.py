@@ -48,8 +48,8 @@ def some_picture(rng, rows, columns, letters):
     return tuple("".join(line) for line in signs)
 
 
-def some_pile(rng, most_sheets, letters="abc"):
-    rows, columns = rng.randint(1, 3), rng.randint(1, 3)
+def some_pile(rng, most_sheets, letters="abc", side=3):
+    rows, columns = rng.randint(1, side), rng.randint(1, side)
     sheets = []
     for _ in range(rng.randint(1, most_sheets)):
         picture = some_picture(rng, rows, columns, letters)
@@ -104,12 +104,12 @@ def some_sayings(rng, pile, order, least=0):
     return tuple(sayings)
 
 
-def some_cases(seed, many, most_sheets=5):
+def some_cases(seed, many, most_sheets=5, side=3):
     """So many cases: by turns with readings, with sayings, with both, built round an order or not."""
     rng = random.Random(seed)
     cases = []
     for number in range(many):
-        pile = some_pile(rng, most_sheets)
+        pile = some_pile(rng, most_sheets, "abc", side)
         order = None
         if number % 2:
             order = list(range(len(pile[2])))
@@ -119,6 +119,27 @@ def some_cases(seed, many, most_sheets=5):
         sayings = () if kind == 0 else some_sayings(rng, pile, order, 1)
         cases.append((pile, view, sayings))
     return cases
+
+
+def some_under(rng, case, orders):
+    """A view from below for a case: built round one of some orders, if there are any, or not."""
+    order = rng.choice(orders)[::-1] if orders and rng.random() < 0.6 else None
+    view = some_view(rng, case[0], order)
+    return {cell: view[cell] for cell in view if rng.random() < 0.7}
+
+
+def some_other(rng, case, orders):
+    """A case with the same pile: one that asks less, or more, or something else."""
+    pile, view, sayings = case
+    kind = rng.randrange(4)
+    order = rng.choice(orders) if orders else None
+    if kind == 0:
+        less = {cell: "".join(sorted(set(view[cell] + some_reading(rng)))) for cell in view if rng.random() < 0.8}
+        return pile, less, tuple((s, tuple(sorted(set(others + (other,)) - {s})))
+                                 for s, others in sayings for other in [rng.randrange(len(pile[2]))])
+    if kind == 1:
+        return pile, {**view, **some_view(rng, pile, order)}, sayings[:4]
+    return pile, some_view(rng, pile, order if kind == 2 else None), some_sayings(rng, pile, order)[:2]
 
 
 def stacked(letters):

@@ -5,10 +5,14 @@ import pathlib
 import unittest
 
 from laidsheets.above import above_table, find_above, find_held
+from laidsheets.below import find_glass, find_glass_table, is_glass_order, is_glass_table
+from laidsheets.comparing import find_only, implies, narrowed, same_orders
 from laidsheets.counts import count_orders, nth_order, number_of
 from laidsheets.jams import find_jam, is_jam, taken
 from laidsheets.letters import best_cell, letter_counts, order_showing
+from laidsheets.misread import fewest_misread, find_misread, find_values, shows
 from laidsheets.orders import find_order, is_order, seen
+from laidsheets.parts import find_part, find_part_jam, is_part, is_part_jam
 from laidsheets.piles import covered, is_case, is_pile, is_saying, is_view
 from laidsheets.places import order_with, places
 from laidsheets.second import order_second, second_counts
@@ -67,9 +71,33 @@ SECOND = """
     [(1, 0, 2), None]
 """
 
+PARTS = """
+    >>> [find_part(CASE), find_part(JAMMED), is_part((PILE, {(0, 2): 'c'}, ()), (2,)), find_part_jam(JAMMED)[0] in [(0, 0), (0, 1), (0, 2)]]
+    [(1, 0, 2), None, True, True]
+"""
+
+MISREAD = """
+    >>> [fewest_misread(CASE), fewest_misread(JAMMED), fewest_misread((PILE, {}, ((0, (1,)), (1, (0,)))))]
+    [0, 1, None]
+"""
+
+BELOW = """
+    >>> [find_glass((CASE, {(0, 0): 'c'})), find_glass((CASE, {(0, 0): 'a'})), is_glass_order((CASE, {(0, 2): 'c'}), (1, 0, 2))]
+    [(1, 0, 2), None, True]
+    >>> [find_glass_table((CASE, {(0, 0): 'c'})), is_glass_table((CASE, {(0, 0): 'a'}), [(), (1,), (0, 1)])]
+    [None, True]
+"""
+
+COMPARING = """
+    >>> [find_only(CASE, (PILE, {(0, 2): 'b'}, ())), implies(CASE, (PILE, {}, ((2, (1,)),))), narrowed(CASE)[1] == {(0, 0): 'a', (0, 1): 'b', (0, 2): 'b'}]
+    [None, True, True]
+"""
+
 NAMES = (above_table, best_cell, count_orders, covered, find_above, find_held, find_jam, find_order, is_case, is_jam,
          is_order, is_pile, is_saying, is_view, letter_counts, nth_order, number_of, order_second, order_showing,
-         order_with, places, second_counts, seen, taken)
+         order_with, places, second_counts, seen, taken, find_part, find_part_jam, is_part, is_part_jam, fewest_misread,
+         find_misread, find_values, shows, find_glass, find_glass_table, is_glass_order, is_glass_table, find_only,
+         implies, narrowed, same_orders)
 
 
 class Examples(unittest.TestCase):
@@ -104,6 +132,18 @@ class Examples(unittest.TestCase):
 
     def test_second(self):
         self.check(SECOND)
+
+    def test_parts(self):
+        self.check(PARTS)
+
+    def test_misread(self):
+        self.check(MISREAD)
+
+    def test_below(self):
+        self.check(BELOW)
+
+    def test_comparing(self):
+        self.check(COMPARING)
 
     def test_readme(self):
         readme = pathlib.Path(__file__).resolve().parent.parent / "README.md"

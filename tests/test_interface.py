@@ -13,6 +13,11 @@ FUNCTIONS = {
     "places": ("places(case, s)", "order_with(case, s, place)"),
     "letters": ("letter_counts(case, cell)", "order_showing(case, cell, letter)", "best_cell(case)"),
     "second": ("second_counts(case, cell)", "order_second(case, cell, letter)"),
+    "parts": ("find_part(case)", "is_part(case, value)", "find_part_jam(case)", "is_part_jam(case, value)"),
+    "misread": ("fewest_misread(case)", "find_misread(case)", "find_values(case)", "shows(case, value, number)"),
+    "below": ("is_glass_order(glass, value)", "find_glass(glass)", "find_glass_table(glass)",
+              "is_glass_table(glass, value)"),
+    "comparing": ("find_only(case, other)", "implies(case, other)", "same_orders(case, other)", "narrowed(case)"),
 }
 
 ERRORS = {"LaidsheetsError": None, "InvalidEvent": "(event)", "Refused": "(jam)"}
