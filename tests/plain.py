@@ -1,6 +1,6 @@
 """What the document says, word for word and by trying all: slow, and without the program."""
 
-from itertools import combinations, permutations
+from itertools import combinations, permutations, product
 
 from tests.samples import shown_at
 
@@ -291,3 +291,153 @@ def glass_table_holds(glass, value):
 def all_only(case, other):
     """All orders that meet the first case and not the other one."""
     return [order for order in all_orders(case) if not meets(other, order)]
+
+
+def with_alone(case, cells, numbers):
+    """The case with these readings and sayings alone."""
+    pile, view, sayings = case
+    return pile, {cell: view[cell] for cell in cells}, tuple(sayings[i] for i in numbers)
+
+
+def core_holds(case, value):
+    if type(value) is not tuple or len(value) != 2 or any(type(part) is not tuple for part in value):
+        return False
+    cells, numbers = value
+    known = sorted(case[1])
+    if repr(cells) != repr(tuple(cell for cell in known if repr(cell) in [repr(one) for one in cells])):
+        return False
+    if repr(numbers) != repr(tuple(i for i in range(len(case[2])) if repr(i) in [repr(one) for one in numbers])):
+        return False
+    if all_orders(with_alone(case, cells, numbers)):
+        return False
+    fewer = [with_alone(case, [other for other in cells if other != cell], numbers) for cell in cells]
+    fewer += [with_alone(case, cells, [other for other in numbers if other != i]) for i in numbers]
+    return all(all_orders(less) for less in fewer)
+
+
+def is_pair(value):
+    return type(value) is tuple and len(value) == 2 and is_int(value[0]) and is_int(value[1])
+
+
+def loose_holds(value):
+    if type(value) is not tuple or len(value) != 3:
+        return False
+    rows, columns, loose = value
+    if type(loose) is not tuple or len(loose) not in range(1, 11):
+        return False
+    many = 1
+    for item in loose:
+        if type(item) is not tuple or len(item) != 2 or type(item[0]) is not tuple or len(item[0]) not in range(1, 5):
+            return False
+        if not all(is_pair(spot) and pile_holds((rows, columns, ((spot[0], spot[1], item[1]),))) for spot in item[0]):
+            return False
+        if list(item[0]) != sorted(set(item[0])):
+            return False
+        many *= len(item[0])
+    return many <= 48
+
+
+def loose_case_holds(value):
+    if type(value) is not tuple or len(value) != 3 or not loose_holds(value[0]) or type(value[1]) is not dict:
+        return False
+    (rows, columns, loose), view, sayings = value
+    board = [repr((row, column)) for row in range(rows) for column in range(columns)]
+    if not all(repr(cell) in board and reading_holds(view[cell]) for cell in view):
+        return False
+    return type(sayings) is tuple and len(sayings) < 7 and all(saying_holds((rows, columns, loose), one) for one in sayings)
+
+
+def placings(loose_case):
+    return list(product(*[spots for spots, picture in loose_case[0][2]]))
+
+
+def pile_at(loose_case, placing):
+    rows, columns, loose = loose_case[0]
+    return rows, columns, tuple((spot[0], spot[1], item[1]) for spot, item in zip(placing, loose))
+
+
+def bare_cells(loose_case, placing):
+    here = covered_cells(pile_at(loose_case, placing))
+    return [cell for cell in loose_case[1] if cell not in here]
+
+
+def right_ones(loose_case):
+    """A dict from each right placing to all orders that meet the case there."""
+    found = {}
+    for placing in placings(loose_case):
+        if not bare_cells(loose_case, placing):
+            orders = all_orders((pile_at(loose_case, placing), loose_case[1], loose_case[2]))
+            if orders:
+                found[placing] = orders
+    return found
+
+
+def bars_hold(loose_case, value):
+    if type(value) is not dict or sorted(map(repr, value)) != sorted(map(repr, placings(loose_case))):
+        return False
+    for placing in value:
+        bar = value[placing]
+        if type(bar) is not tuple or len(bar) != 2:
+            return False
+        bare = bare_cells(loose_case, placing)
+        if bar[0] == "bare":
+            if repr(bar[1]) not in [repr(cell) for cell in bare]:
+                return False
+        elif bar[0] != "jam" or bare:
+            return False
+        elif not jam_holds((pile_at(loose_case, placing), loose_case[1], loose_case[2]), bar[1]):
+            return False
+    return True
+
+
+def behind(case, event):
+    """The case behind an event, or None if it cannot be made in the case."""
+    pile, view, sayings = case
+    if type(event) is not tuple or not event or type(event[0]) is not str:
+        return None
+    if event[0] == "read" and len(event) == 3:
+        _, cell, reading = event
+        if repr(cell) not in [repr(key) for key in covered_cells(pile)] or not reading_holds(reading):
+            return None
+        both = "".join(sorted(set(reading) & set(view[cell]))) if cell in view else reading
+        return pile, {**view, cell: both}, sayings
+    if event[0] == "say" and len(event) == 2 and saying_holds(pile, event[1]) and len(sayings) < 6:
+        return pile, view, sayings + (event[1],)
+    if event[0] == "drop" and len(event) == 2 and repr(event[1]) in [repr(i) for i in range(len(sayings))]:
+        return pile, view, tuple(sayings[i] for i in range(len(sayings)) if i != event[1])
+    return None
+
+
+def log_holds(pile, value):
+    if type(value) is not list:
+        return False
+    case = (pile, {}, ())
+    for entry in value:
+        if type(entry) is not tuple or len(entry) != 2:
+            return False
+        case = behind(case, entry[0])
+        if case is None or repr(entry[1]) not in [repr(order) for order in all_orders(case)]:
+            return False
+    return True
+
+
+def breaches(orders, saying):
+    """Those of some orders in which the saying's sheet stands ahead of all its others."""
+    s, others = saying
+    return [order for order in orders if all(stands_ahead(order, s, other) for other in others)]
+
+
+def ground_holds(case, saying, value):
+    s, others = saying
+    if type(value) is not dict or not all(is_int(key) and key in range(len(case[0][2])) for key in value):
+        return False
+    if s not in value or any(other in value for other in others):
+        return False
+    within = list(value) + list(others)
+    return all(repr(value[key]) in [repr(reason) for reason in reasons(case, key, within)] for key in value)
+
+
+def all_sayings(pile):
+    sheets = range(len(pile[2]))
+    return [(s, others) for s in sheets for many in range(1, len(sheets))
+            for others in combinations([other for other in sheets if other != s], many)]

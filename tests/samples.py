@@ -13,6 +13,10 @@ ONE = (1, 1, ((0, 0, ("a",)),))
 TEN = (2, 8, tuple((s % 2, s % 7, ("ab" if s % 3 else "b.",)) for s in range(10)))
 BOARD = (8, 8, ((0, 0, ("a" * 8,) * 8), (7, 7, ("z",)), (0, 7, ("m",)), (3, 3, (".b.", "b.b", ".b."))))
 
+LOOSE = (1, 3, ((((0, 0), (0, 1)), ("aa",)), (((0, 1),), ("bb",))))
+ASKED = (LOOSE, {(0, 0): "a", (0, 1): "b"}, ())
+BARRED = (LOOSE, {(0, 0): "b"}, ())
+
 
 def deep(levels):
     """A value that is nested so deep, of tuples, lists and dicts by turns."""
@@ -140,6 +144,56 @@ def some_other(rng, case, orders):
     if kind == 1:
         return pile, {**view, **some_view(rng, pile, order)}, sayings[:4]
     return pile, some_view(rng, pile, order if kind == 2 else None), some_sayings(rng, pile, order)[:2]
+
+
+def some_loose(rng, most_sheets, side=3, letters="abc"):
+    """A loose pile; as many sheets as there can be have several spots."""
+    rows, columns = rng.randint(1, side), rng.randint(1, side)
+    loose = []
+    left = 48
+    for _ in range(rng.randint(1, most_sheets)):
+        picture = some_picture(rng, max(1, rows - 1), max(1, columns - 1), letters)
+        spots = [(row, column) for row in range(rows - len(picture) + 1) for column in range(columns - len(picture[0]) + 1)]
+        many = rng.randint(1, min(4, left, len(spots)))
+        left //= many
+        loose.append((tuple(sorted(rng.sample(spots, many))), picture))
+    rng.shuffle(loose)
+    return rows, columns, tuple(loose)
+
+
+def some_loose_cases(seed, many, most_sheets=4, side=3):
+    """So many loose cases: by turns with readings, with sayings, with both, built round an order at a placing or not."""
+    rng = random.Random(seed)
+    for number in range(many):
+        loose_pile = some_loose(rng, most_sheets, side)
+        rows, columns, loose = loose_pile
+        pile = (rows, columns, tuple(rng.choice(spots) + (picture,) for spots, picture in loose))
+        order = None
+        if number % 4:
+            order = list(range(len(loose)))
+            rng.shuffle(order)
+        kind = number % 3
+        view = {} if kind == 1 else some_view(rng, pile, order)
+        if kind != 1 and rng.random() < 0.2:
+            view[(rng.randrange(rows), rng.randrange(columns))] = some_reading(rng)
+        sayings = () if kind == 0 else some_sayings(rng, pile, order, 1)
+        yield loose_pile, view, sayings
+
+
+def some_event(rng, case, order=None):
+    """An event by chance, mostly one that can be made; with an order mostly one that holds in it."""
+    pile, view, sayings = case
+    kind = rng.randrange(8)
+    if kind < 5 or len(pile[2]) == 1:
+        views = some_view(rng, pile, order if rng.random() < 0.9 else None)
+        if views:
+            cell = rng.choice(sorted(views))
+            return "read", cell, views[cell]
+    if kind < 7:
+        found = some_sayings(rng, pile, order if rng.random() < 0.8 else None)
+        if found:
+            return "say", found[0]
+    return "drop", rng.randrange(-1, len(sayings) + 1)
 
 
 def stacked(letters):

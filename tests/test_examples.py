@@ -2,14 +2,21 @@
 
 import doctest
 import pathlib
+import re
 import unittest
 
 from laidsheets.above import above_table, find_above, find_held
 from laidsheets.below import find_glass, find_glass_table, is_glass_order, is_glass_table
 from laidsheets.comparing import find_only, implies, narrowed, same_orders
+from laidsheets.cores import find_core, is_core
 from laidsheets.counts import count_orders, nth_order, number_of
+from laidsheets.desk import Desk
+from laidsheets.errors import InvalidEvent
+from laidsheets.following import find_breach, find_ground, is_ground
 from laidsheets.jams import find_jam, is_jam, taken
 from laidsheets.letters import best_cell, letter_counts, order_showing
+from laidsheets.logs import is_log, replayed
+from laidsheets.loose import case_at, count_placings, find_bars, find_placing, sure_spots
 from laidsheets.misread import fewest_misread, find_misread, find_values, shows
 from laidsheets.orders import find_order, is_order, seen
 from laidsheets.parts import find_part, find_part_jam, is_part, is_part_jam
@@ -93,16 +100,68 @@ COMPARING = """
     [None, True, True]
 """
 
+CORES = """
+    >>> [find_core(JAMMED), find_core(CASE), is_core(JAMMED, (((0, 0), (0, 1)), ()))]
+    [(((0, 0), (0, 1), (0, 2)), ()), None, False]
+"""
+
+SPOTS = """
+    >>> [find_placing(ASKED), count_placings(ASKED), sure_spots(ASKED), case_at(ASKED, ((0, 1), (0, 1)))]
+    [(((0, 0), (0, 1)), (1, 0)), (1, 1), [[(0, 0)], [(0, 1)]], None]
+    >>> find_bars((LOOSE, {(0, 0): 'b'}, ())) == {((0, 0), (0, 1)): ('jam', {0: ('cell', (0, 0))}), ((0, 1), (0, 1)): ('bare', (0, 0))}
+    True
+"""
+
+DESK = """
+    >>> desk = Desk(PILE)
+    >>> [desk.read((0, 0), 'ab'), desk.read((0, 1), 'b'), desk.case()[1] == {(0, 0): 'ab', (0, 1): 'b'}, desk.order()]
+    [None, None, True, (1, 0, 2)]
+    >>> desk = Desk(PILE)
+    >>> desk.read((0, 3), 'a')
+    raises InvalidEvent(('read', (0, 3), 'a'))
+"""
+
+LOGS = """
+    >>> [is_log(PILE, [(('read', (0, 0), 'a'), (0, 1, 2))]), is_log(PILE, [(('read', (0, 0), 'a'), (2, 0, 1))])]
+    [True, False]
+    >>> replayed(PILE, [(('say', (0, (1,))), (1, 0, 2))]) == (PILE, {}, ((0, (1,)),))
+    True
+"""
+
+FOLLOWING = """
+    >>> FIRST = (PILE, {(0, 0): 'a'}, ())
+    >>> EITHER = (PILE, {}, ((0, (1, 2)), (1, (0, 2))))
+    >>> [find_breach(CASE, (2, (1,))), find_breach(CASE, (1, (0, 2))), find_ground(CASE, (1, (0, 2)))]
+    [None, (1, 0, 2), None]
+    >>> [find_ground(CASE, (0, (1, 2))), is_ground(CASE, (2, (1,)), {0: ('cell', (0, 1)), 2: ('cell', (0, 0))}), is_ground(CASE, (2, (1,)), {2: ('cell', (0, 0))})]
+    [{0: ('cell', (0, 1))}, True, False]
+"""
+
 NAMES = (above_table, best_cell, count_orders, covered, find_above, find_held, find_jam, find_order, is_case, is_jam,
          is_order, is_pile, is_saying, is_view, letter_counts, nth_order, number_of, order_second, order_showing,
          order_with, places, second_counts, seen, taken, find_part, find_part_jam, is_part, is_part_jam, fewest_misread,
          find_misread, find_values, shows, find_glass, find_glass_table, is_glass_order, is_glass_table, find_only,
-         implies, narrowed, same_orders)
+         implies, narrowed, same_orders, find_core, is_core, case_at, count_placings, find_bars, find_placing, sure_spots,
+         Desk, is_log, replayed, find_breach, find_ground, is_ground)
+
+
+RAISES = re.compile(r">>> (.*)\n    raises (\w+)\((.*)\)\n")
+
+
+def raised(call, error, *holds):
+    """Whether a call raises just this error, with attributes that hold just these values."""
+    try:
+        call()
+    except Exception as found:
+        return type(found) is error and list(vars(found).values()) == list(holds)
+    return False
 
 
 class Examples(unittest.TestCase):
     def check(self, text):
-        names = {function.__name__: function for function in NAMES}
+        names = {function.__name__: function for function in NAMES + (InvalidEvent, raised)}
+        # doctest does not know the document's way to write that an error is raised.
+        text = RAISES.sub(r">>> raised(lambda: \1, \2, \3)\n    True\n", text)
         test = doctest.DocTestParser().get_doctest(CONVENTIONS + text, names, "the document", None, None)
         self.assertGreater(len(test.examples), 5)
         told = []
@@ -144,6 +203,21 @@ class Examples(unittest.TestCase):
 
     def test_comparing(self):
         self.check(COMPARING)
+
+    def test_cores(self):
+        self.check(CORES)
+
+    def test_spots(self):
+        self.check(SPOTS)
+
+    def test_desk(self):
+        self.check(DESK)
+
+    def test_logs(self):
+        self.check(LOGS)
+
+    def test_following(self):
+        self.check(FOLLOWING)
 
     def test_readme(self):
         readme = pathlib.Path(__file__).resolve().parent.parent / "README.md"

@@ -18,6 +18,17 @@ FUNCTIONS = {
     "below": ("is_glass_order(glass, value)", "find_glass(glass)", "find_glass_table(glass)",
               "is_glass_table(glass, value)"),
     "comparing": ("find_only(case, other)", "implies(case, other)", "same_orders(case, other)", "narrowed(case)"),
+    "cores": ("find_core(case)", "is_core(case, value)"),
+    "loose": ("is_loose(value)", "is_loose_case(value)", "case_at(loose_case, placing)", "find_placing(loose_case)",
+              "find_bars(loose_case)", "is_bars(loose_case, value)", "count_placings(loose_case)",
+              "sure_spots(loose_case)"),
+    "logs": ("log(desk)", "is_log(pile, value)", "replayed(pile, log)"),
+    "following": ("find_breach(case, saying)", "find_ground(case, saying)", "is_ground(case, saying, value)"),
+}
+
+CLASSES = {
+    "desk": {"Desk(pile)": ("read(self, cell, reading)", "say(self, saying)", "drop(self, i)", "undo(self)", "case(self)",
+                            "order(self)", "__eq__(self, other)")},
 }
 
 ERRORS = {"LaidsheetsError": None, "InvalidEvent": "(event)", "Refused": "(jam)"}
@@ -32,6 +43,18 @@ class Interface(unittest.TestCase):
                 self.assertTrue(inspect.isfunction(function))
                 self.assertEqual(function.__module__, module.__name__)
                 self.assertEqual(function.__name__ + str(inspect.signature(function)), line)
+
+    def test_classes(self):
+        for name in CLASSES:
+            module = importlib.import_module("laidsheets." + name)
+            for line in CLASSES[name]:
+                made = getattr(module, line.partition("(")[0])
+                self.assertTrue(inspect.isclass(made))
+                self.assertEqual(made.__module__, module.__name__)
+                self.assertEqual(made.__name__ + str(inspect.signature(made)), line)
+                for method in CLASSES[name][line]:
+                    own = vars(made)[method.partition("(")[0]]
+                    self.assertEqual(own.__name__ + str(inspect.signature(own)), method)
 
     def test_errors(self):
         module = importlib.import_module("laidsheets.errors")
