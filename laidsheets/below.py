@@ -6,7 +6,7 @@ A set of [13] is written here as the mask of the sheets that are not in it, of t
 from laidsheets.misread import row_back
 from laidsheets.orders import is_row
 from laidsheets.piles import covered
-from laidsheets.reasons import all_of, free_sheets, is_set, mask_of, reasons_by_sheet, sheets_in
+from laidsheets.reasons import all_of, free_sheets, gone_set, is_set, mask_of, reasons_by_sheet
 
 
 def shields_by_sheet(glass):
@@ -70,7 +70,7 @@ def find_glass_table(glass):
     last = last_steps(table, shields_by_sheet(glass))
     if 0 in last:
         return None
-    return sorted([tuple(sheets_in(all_of(table) - left)) for left in last])
+    return sorted([gone_set(table, left) for left in last])
 
 
 def is_glass_table(glass, value):

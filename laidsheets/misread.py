@@ -4,7 +4,7 @@ A set of [12] is written here as the mask of the sheets that are not in it, of t
 """
 
 from laidsheets.piles import is_integer
-from laidsheets.reasons import all_of, holds, is_set, mask_of, reasons_by_sheet, sheets_in
+from laidsheets.reasons import all_of, gone_set, holds, is_set, mask_of, reasons_by_sheet, sheets_in
 
 
 def step_cost(own, left):
@@ -72,7 +72,7 @@ def find_values(case):
     """Returns as values the least cost of the steps that lead to each set, for all sets that steps lead to."""
     table = reasons_by_sheet(case)
     least = least_costs(table)
-    return {tuple(sheets_in(all_of(table) - left)): least[left][0] for left in least}
+    return {gone_set(table, left): least[left][0] for left in least}
 
 
 def are_values(count, value):

@@ -109,13 +109,17 @@ def is_view(pile, value):
 
 def is_saying(pile, value):
     """Returns whether any value is a saying about the sheets of a pile."""
+    return is_saying_among(len(pile[2]), value)
+
+
+def is_saying_among(count, value):
+    """Returns whether any value is a saying about so many sheets."""
     if not is_tuple(value, 2):
         return False
     s, others = value
-    last = len(pile[2]) - 1
-    if not is_number(s, 0, last) or not isinstance(others, tuple) or others == ():
+    if not is_number(s, 0, count - 1) or not isinstance(others, tuple) or others == ():
         return False
-    if not all([is_number(other, 0, last) for other in others]):
+    if not all([is_number(other, 0, count - 1) for other in others]):
         return False
     return is_ascending(others) and s not in others
 

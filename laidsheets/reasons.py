@@ -34,6 +34,11 @@ def all_of(table):
     return (1 << len(table)) - 1
 
 
+def gone_set(table, left):
+    """Returns the ascending tuple of the sheets that are no more among those left, given as a mask."""
+    return tuple(sheets_in(all_of(table) - left))
+
+
 def reasons_by_sheet(case):
     """Returns for each sheet the list of its (reason, needed): the cells ascending, then the sayings."""
     return reasons_at(covered(case[0]), case)

@@ -7,6 +7,7 @@ import unittest
 
 from laidsheets.above import above_table, find_above, find_held
 from laidsheets.below import find_glass, find_glass_table, is_glass_order, is_glass_table
+from laidsheets.books import base_of, find_book_ground, find_source, is_book, is_source, meets
 from laidsheets.comparing import find_only, implies, narrowed, same_orders
 from laidsheets.cores import find_core, is_core
 from laidsheets.counts import count_orders, nth_order, number_of
@@ -23,6 +24,9 @@ from laidsheets.parts import find_part, find_part_jam, is_part, is_part_jam
 from laidsheets.piles import covered, is_case, is_pile, is_saying, is_view
 from laidsheets.places import order_with, places
 from laidsheets.second import order_second, second_counts
+from laidsheets.standing import find_standing
+from laidsheets.topsets import fitting, paths, tight_sayings, top_sets
+from laidsheets.ways import distance, find_way, next_orders
 
 CONVENTIONS = """
     >>> PILE = (1, 3, ((0, 0, ('aa',)), (0, 1, ('bb',)), (0, 0, ('c.c',))))
@@ -128,13 +132,44 @@ LOGS = """
     True
 """
 
-FOLLOWING = """
+STAGES = """
     >>> FIRST = (PILE, {(0, 0): 'a'}, ())
     >>> EITHER = (PILE, {}, ((0, (1, 2)), (1, (0, 2))))
+"""
+
+FOLLOWING = """
     >>> [find_breach(CASE, (2, (1,))), find_breach(CASE, (1, (0, 2))), find_ground(CASE, (1, (0, 2)))]
     [None, (1, 0, 2), None]
     >>> [find_ground(CASE, (0, (1, 2))), is_ground(CASE, (2, (1,)), {0: ('cell', (0, 1)), 2: ('cell', (0, 0))}), is_ground(CASE, (2, (1,)), {2: ('cell', (0, 0))})]
     [{0: ('cell', (0, 1))}, True, False]
+"""
+
+TOPSETS = """
+    >>> [top_sets(CASE), fitting(FIRST, ()), fitting(FIRST, (0,)), paths(CASE, 2), tight_sayings(CASE, 2)]
+    [[(), (0, 1), (0, 1, 2), (1,)], (0, 1), (1, 2), [(0, 1, 2)], [(2, (0,)), (2, (1,))]]
+    >>> [paths(EITHER, 0), tight_sayings(EITHER, 0), tight_sayings(EITHER, 2)]
+    [[(0, 2)], [(0, (2,))], []]
+"""
+
+BOOKS = """
+    >>> [base_of(CASE), base_of(FIRST), base_of(EITHER), base_of((PILE, {}, ()))]
+    [((0, (1,)), (2, (0,))), ((2, (0,)),), ((0, (2,)), (1, (2,))), ()]
+    >>> [find_source(CASE, (2, (0,))), find_source(EITHER, (0, (2,))), is_source(CASE, (2, (0,)), ('cell', (0, 2)))]
+    [('cell', (0, 0)), ('saying', 0), False]
+    >>> [find_book_ground(base_of(CASE), (2, (1,))), find_book_ground(base_of(CASE), (1, (0,))), meets(base_of(FIRST), (2, 0, 1)), is_book(3, ((0, (1,)), (0, (1,))))]
+    [{0: 0, 2: 1}, None, False, False]
+"""
+
+STANDING = """
+    >>> [find_standing(CASE, (1, (0,))), find_standing(CASE, (0, (1, 2)))[:2], find_standing(CASE, (2, (1,)))]
+    [('broken', (1, 0, 2)), ('loose', 2), ('tight', {0: 0, 2: 1}, ())]
+    >>> find_standing(CASE, (2, (0,)))
+    ('book', {2: ('cell', (0, 0))}, ((1, 0, 2),))
+"""
+
+WAYS = """
+    >>> [distance((0, 2, 1), (1, 0, 2)), find_way(FIRST, (0, 2, 1), (1, 0, 2)), next_orders(FIRST, (0, 1, 2)), find_way(CASE, (1, 0, 2), (1, 0, 2))]
+    [2, [(0, 2, 1), (0, 1, 2), (1, 0, 2)], [(0, 2, 1), (1, 0, 2)], [(1, 0, 2)]]
 """
 
 NAMES = (above_table, best_cell, count_orders, covered, find_above, find_held, find_jam, find_order, is_case, is_jam,
@@ -142,7 +177,8 @@ NAMES = (above_table, best_cell, count_orders, covered, find_above, find_held, f
          order_with, places, second_counts, seen, taken, find_part, find_part_jam, is_part, is_part_jam, fewest_misread,
          find_misread, find_values, shows, find_glass, find_glass_table, is_glass_order, is_glass_table, find_only,
          implies, narrowed, same_orders, find_core, is_core, case_at, count_placings, find_bars, find_placing, sure_spots,
-         Desk, is_log, replayed, find_breach, find_ground, is_ground)
+         Desk, is_log, replayed, find_breach, find_ground, is_ground, top_sets, fitting, paths, tight_sayings, base_of,
+         find_source, is_source, find_book_ground, meets, is_book, find_standing, distance, find_way, next_orders)
 
 
 RAISES = re.compile(r">>> (.*)\n    raises (\w+)\((.*)\)\n")
@@ -217,7 +253,19 @@ class Examples(unittest.TestCase):
         self.check(LOGS)
 
     def test_following(self):
-        self.check(FOLLOWING)
+        self.check(STAGES + FOLLOWING)
+
+    def test_topsets(self):
+        self.check(STAGES + TOPSETS)
+
+    def test_books(self):
+        self.check(STAGES + BOOKS)
+
+    def test_standing(self):
+        self.check(STAGES + STANDING)
+
+    def test_ways(self):
+        self.check(STAGES + WAYS)
 
     def test_readme(self):
         readme = pathlib.Path(__file__).resolve().parent.parent / "README.md"

@@ -24,6 +24,12 @@ FUNCTIONS = {
               "sure_spots(loose_case)"),
     "logs": ("log(desk)", "is_log(pile, value)", "replayed(pile, log)"),
     "following": ("find_breach(case, saying)", "find_ground(case, saying)", "is_ground(case, saying, value)"),
+    "topsets": ("top_sets(case)", "fitting(case, some)", "paths(case, s)", "tight_sayings(case, s)"),
+    "books": ("is_book(n, value)", "meets(book, row)", "base_of(case)", "find_source(case, saying)",
+              "is_source(case, saying, value)", "find_book_ground(book, saying)", "is_book_ground(book, saying, value)"),
+    "standing": ("find_standing(case, saying)", "is_standing(case, saying, value)"),
+    "ways": ("distance(row, other)", "find_way(case, order, other)", "is_way(case, order, other, value)",
+             "next_orders(case, order)"),
 }
 
 CLASSES = {
