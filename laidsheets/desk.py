@@ -24,8 +24,14 @@ def case_behind(cells, case, event):
     if kind == "say" and is_saying(pile, what) and len(sayings) < MOST_SAYINGS:
         return (pile, view, sayings + (what,))
     if kind == "drop" and is_number(what, 0, len(sayings) - 1):
-        return (pile, view, sayings[:what] + sayings[what + 1:])
+        return without_saying(case, what)
     return None
+
+
+def without_saying(case, i):
+    """Returns the case without saying i."""
+    pile, view, sayings = case
+    return (pile, view, sayings[:i] + sayings[i + 1:])
 
 
 def is_read(cells, event):

@@ -86,10 +86,7 @@ def is_spare(case, saying, o, ground):
 
 
 def is_tight(table, saying, ground, orders):
-    """Returns whether a saying is not in the base, and any values are its ground there and orders that show it tight.
-
-    With its ground it follows from the base: so all of it is then as a tight saying's standing must be.
-    """
+    """Returns whether a saying is not in the base, and any values are a ground in it and orders that show it tight."""
     s, others = saying
     base = base_of_table(table)
     if saying in base or not is_book_ground(base, saying, ground):

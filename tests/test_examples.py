@@ -11,7 +11,9 @@ from laidsheets.books import base_of, find_book_ground, find_source, is_book, is
 from laidsheets.comparing import find_only, implies, narrowed, same_orders
 from laidsheets.cores import find_core, is_core
 from laidsheets.counts import count_orders, nth_order, number_of
+from laidsheets.deciding import fewest_readings, find_hold, find_plan, is_hold, is_plan
 from laidsheets.desk import Desk
+from laidsheets.distances import distances, order_apart, pair_counts
 from laidsheets.errors import InvalidEvent
 from laidsheets.following import find_breach, find_ground, is_ground
 from laidsheets.jams import find_jam, is_jam, taken
@@ -19,6 +21,9 @@ from laidsheets.letters import best_cell, letter_counts, order_showing
 from laidsheets.logs import is_log, replayed
 from laidsheets.loose import case_at, count_placings, find_bars, find_placing, sure_spots
 from laidsheets.misread import fewest_misread, find_misread, find_values, shows
+from laidsheets.moverlogs import first_mover_fault, is_mover_log, mover_behind
+from laidsheets.movers import Mover
+from laidsheets.nearest import farthest, nearest, shows_near
 from laidsheets.orders import find_order, is_order, seen
 from laidsheets.parts import find_part, find_part_jam, is_part, is_part_jam
 from laidsheets.piles import covered, is_case, is_pile, is_saying, is_view
@@ -27,6 +32,7 @@ from laidsheets.second import order_second, second_counts
 from laidsheets.standing import find_standing
 from laidsheets.topsets import fitting, paths, tight_sayings, top_sets
 from laidsheets.ways import distance, find_way, next_orders
+from tests.samples import PILE
 
 CONVENTIONS = """
     >>> PILE = (1, 3, ((0, 0, ('aa',)), (0, 1, ('bb',)), (0, 0, ('c.c',))))
@@ -172,13 +178,49 @@ WAYS = """
     [2, [(0, 2, 1), (0, 1, 2), (1, 0, 2)], [(0, 2, 1), (1, 0, 2)], [(1, 0, 2)]]
 """
 
+NEAREST = """
+    >>> [nearest(FIRST, (2, 1, 0)), farthest(FIRST, (2, 1, 0)), nearest(CASE, (0, 1, 2))]
+    [((0, 2, 1), 2), ((0, 1, 2), 3), ((1, 0, 2), 1)]
+    >>> [shows_near(CASE, (0, 1, 2), {(): 0, (1,): 1, (0, 1): 1, (0, 1, 2): 1}, 1), shows_near(CASE, (0, 1, 2), {(): 0}, 1)]
+    [True, False]
+"""
+
+DISTANCES = """
+    >>> [distances(FIRST, (0, 1, 2)), distances(FIRST, (2, 1, 0)), order_apart(FIRST, (0, 1, 2), 2), pair_counts(FIRST)[(0, 1)]]
+    [[1, 2, 0, 0], [0, 0, 2, 1], None, 2]
+"""
+
+DECIDING = """
+    >>> ASK = ((0, 0), (0, 1), (0, 2))
+    >>> [fewest_readings(FIRST, ASK), fewest_readings(CASE, ASK), find_plan(CASE, ASK), find_hold(FIRST, ASK, 2)]
+    [2, 0, {}, None]
+    >>> [is_plan(FIRST, ASK, 2, {(): (0, 1), (((0, 1), 'a'),): (0, 2)}), is_hold(FIRST, ASK, 1, {((), (0, 0)): 'a', ((), (0, 1)): 'a', ((), (0, 2)): 'b'}), find_hold(FIRST, ASK, 0)]
+    [True, True, {}]
+"""
+
+MOVERS = """
+    >>> mover = Mover(PILE)
+    >>> [mover.say((0, (1, 2))), mover.order(), mover.say((1, (0,))), mover.order(), mover.book()]
+    [1, (1, 0, 2), 3, (2, 0, 1), ((0, (2,)), (1, (0,)))]
+    >>> [mover.log()[0][:2], mover.read((0, 2), 'c'), mover.trim(), mover.undo(), mover.undo(), len(mover.log())]
+    [(('say', (0, (1, 2))), [(0, 1, 2), (1, 0, 2)]), 0, [], ('trim',), ('read', (0, 2), 'c'), 2]
+"""
+
+MOVERLOGS = """
+    >>> mover = Mover(PILE)
+    >>> [mover.say((0, (1,))), is_mover_log(PILE, mover.log()), mover_behind(PILE, mover.log()), first_mover_fault(PILE, mover.log() + [('trim', ((0, (1,)),))])]
+    [1, True, ((PILE, {}, ((0, (1,)),)), (1, 0, 2)), 1]
+"""
+
 NAMES = (above_table, best_cell, count_orders, covered, find_above, find_held, find_jam, find_order, is_case, is_jam,
          is_order, is_pile, is_saying, is_view, letter_counts, nth_order, number_of, order_second, order_showing,
          order_with, places, second_counts, seen, taken, find_part, find_part_jam, is_part, is_part_jam, fewest_misread,
          find_misread, find_values, shows, find_glass, find_glass_table, is_glass_order, is_glass_table, find_only,
          implies, narrowed, same_orders, find_core, is_core, case_at, count_placings, find_bars, find_placing, sure_spots,
          Desk, is_log, replayed, find_breach, find_ground, is_ground, top_sets, fitting, paths, tight_sayings, base_of,
-         find_source, is_source, find_book_ground, meets, is_book, find_standing, distance, find_way, next_orders)
+         find_source, is_source, find_book_ground, meets, is_book, find_standing, distance, find_way, next_orders,
+         nearest, farthest, shows_near, distances, order_apart, pair_counts, fewest_readings, find_plan, find_hold, is_plan,
+         is_hold, Mover, is_mover_log, mover_behind, first_mover_fault)
 
 
 RAISES = re.compile(r">>> (.*)\n    raises (\w+)\((.*)\)\n")
@@ -266,6 +308,22 @@ class Examples(unittest.TestCase):
 
     def test_ways(self):
         self.check(STAGES + WAYS)
+
+    def test_nearest(self):
+        self.check(STAGES + NEAREST)
+
+    def test_distances(self):
+        self.check(STAGES + DISTANCES)
+
+    def test_deciding(self):
+        self.check(STAGES + DECIDING)
+
+    def test_movers(self):
+        self.check(STAGES + MOVERS)
+
+    def test_moverlogs(self):
+        # The pile is written out in what the interpreter shows.
+        self.check(STAGES + MOVERLOGS.replace("    [1, True, ((PILE,", f"    [1, True, (({PILE!r},"))
 
     def test_readme(self):
         readme = pathlib.Path(__file__).resolve().parent.parent / "README.md"

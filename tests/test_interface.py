@@ -30,11 +30,19 @@ FUNCTIONS = {
     "standing": ("find_standing(case, saying)", "is_standing(case, saying, value)"),
     "ways": ("distance(row, other)", "find_way(case, order, other)", "is_way(case, order, other, value)",
              "next_orders(case, order)"),
+    "nearest": ("nearest(case, row)", "farthest(case, row)", "find_near_values(case, row)",
+                "shows_near(case, row, value, number)"),
+    "distances": ("distances(case, row)", "order_apart(case, row, number)", "pair_counts(case)"),
+    "deciding": ("fewest_readings(case, asked)", "find_plan(case, asked)", "find_hold(case, asked, m)",
+                 "is_plan(case, asked, m, value)", "is_hold(case, asked, m, value)"),
+    "moverlogs": ("first_mover_fault(pile, value)", "is_mover_log(pile, value)", "mover_behind(pile, log)"),
 }
 
 CLASSES = {
     "desk": {"Desk(pile)": ("read(self, cell, reading)", "say(self, saying)", "drop(self, i)", "undo(self)", "case(self)",
                             "order(self)", "__eq__(self, other)")},
+    "movers": {"Mover(pile)": ("read(self, cell, reading)", "say(self, saying)", "drop(self, i)", "trim(self)", "undo(self)",
+                               "case(self)", "order(self)", "book(self)", "log(self)", "__eq__(self, other)")},
 }
 
 ERRORS = {"LaidsheetsError": None, "InvalidEvent": "(event)", "Refused": "(jam)"}
