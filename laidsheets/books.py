@@ -1,9 +1,9 @@
 """Books of sayings, the base of a case, and grounds in a book: [20], [21] and [22] of the document."""
 
 from laidsheets.counts import steps_of
+from laidsheets.following import ground_by
 from laidsheets.piles import is_ascending, is_integer, is_number, is_saying_among
-from laidsheets.reasons import all_of, find_reason, is_reason, mask_of, reasons_by_sheet, sheets_in, stuck_reasons
-from laidsheets.reasons import take_off
+from laidsheets.reasons import all_of, find_reason, is_reason, mask_of, reasons_by_sheet, sheets_in, take_off
 
 
 def is_book(n, value):
@@ -75,11 +75,7 @@ def table_of_book(book, saying):
 
 def find_book_ground(book, saying):
     """Returns the ground in a book with all sheets that the others hold, or None if there is none."""
-    s, others = saying
-    ground = stuck_reasons(table_of_book(book, saying), mask_of(others))
-    if s not in ground:
-        return None
-    return ground
+    return ground_by(table_of_book(book, saying), saying)
 
 
 def is_book_ground(book, saying, value):

@@ -7,13 +7,16 @@ from laidsheets.reasons import all_of, reasons_by_sheet, sheets_in
 
 def counts_behind(steps, costs):
     """Returns a dict from each mask of steps to a list of how many rows of its sheets cost 0, 1 and so on."""
-    counts = {0: [1]}
+    counts = {}
     for left in sorted(steps):
-        if left > 0:
-            counts[left] = [0] * (sum(range(len(sheets_in(left)))) + 1)
+        many = [0] * (sum(range(len(sheets_in(left)))) + 1)
         for s in steps[left]:
             for number, rows in enumerate(counts[left - (1 << s)]):
-                counts[left][number + costs[s][left]] += rows
+                many[number + costs[s][left]] += rows
+        counts[left] = many
+        # That nothing is left is an end that can be come to in one way.
+        if left == 0:
+            counts[left] = [1]
     return counts
 
 

@@ -11,8 +11,13 @@ def find_breach(case, saying):
 
 def find_ground(case, saying):
     """Returns the ground with all sheets that the others hold, or None if the saying does not follow."""
+    return ground_by(reasons_by_sheet(case), saying)
+
+
+def ground_by(table, saying):
+    """Returns what find_ground does, for the case that a table of reasons is of."""
     s, others = saying
-    ground = stuck_reasons(reasons_by_sheet(case), mask_of(others))
+    ground = stuck_reasons(table, mask_of(others))
     if s not in ground:
         return None
     return ground
@@ -20,5 +25,10 @@ def find_ground(case, saying):
 
 def is_ground(case, saying, value):
     """Returns whether any value is a ground of the saying."""
+    return is_ground_by(reasons_by_sheet(case), saying, value)
+
+
+def is_ground_by(table, saying, value):
+    """Returns what is_ground does, for the case that a table of reasons is of."""
     s, others = saying
-    return are_reasons(reasons_by_sheet(case), mask_of(others), value) and s in value
+    return are_reasons(table, mask_of(others), value) and s in value

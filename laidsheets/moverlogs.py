@@ -2,7 +2,7 @@
 
 from laidsheets.counts import steps_of
 from laidsheets.desk import case_behind, without_saying
-from laidsheets.following import is_ground
+from laidsheets.following import is_ground_by
 from laidsheets.movers import TRIM, beginning, trimmed
 from laidsheets.nearest import are_near_values, costs_of, nearest_by
 from laidsheets.piles import covered, is_saying, is_tuple
@@ -30,16 +30,16 @@ def behind_event(cells, case, order, entry):
     return (behind, least)
 
 
-def behind_trim(case, value):
+def behind_trim(cells, case, value):
     """Returns the case behind a trim, or None if any value is not what a trim drops with its grounds."""
-    behind, dropped = trimmed(case)
+    behind, dropped = trimmed(cells, case)
     if not is_tuple(value, len(dropped)):
         return None
     for (saying, _), pair in zip(dropped, value):
         if not is_tuple(pair, 2) or not is_saying(case[0], pair[0]) or pair[0] != saying:
             return None
         case = case_without(case, saying)
-        if not is_ground(case, saying, pair[1]):
+        if not is_ground_by(reasons_at(cells, case), saying, pair[1]):
             return None
     return behind
 
@@ -58,7 +58,7 @@ def behind_entry(cells, case, order, entry):
         return behind_event(cells, case, order, entry)
     if not is_tuple(entry, 2) or entry[0] != TRIM:
         return None
-    behind = behind_trim(case, entry[1])
+    behind = behind_trim(cells, case, entry[1])
     if behind is None:
         return None
     return (behind, order)

@@ -4,7 +4,7 @@ from laidsheets.books import base_of
 from laidsheets.counts import steps_of
 from laidsheets.desk import case_behind, own_case, without_saying
 from laidsheets.errors import InvalidEvent, Refused, copied
-from laidsheets.following import find_ground
+from laidsheets.following import ground_by
 from laidsheets.nearest import costs_of, nearest_by, values_by_set
 from laidsheets.piles import covered
 from laidsheets.reasons import reasons_at, stuck_reasons
@@ -18,14 +18,17 @@ def beginning(pile):
     return ((pile, {}, ()), tuple(range(len(pile[2]))))
 
 
-def trimmed(case):
-    """Returns (case, dropped): the case behind a trim, and the tuple of (saying, ground) of the sayings that went."""
+def trimmed(cells, case):
+    """Returns (case, dropped): the case behind a trim, and the tuple of (saying, ground) of the sayings that went.
+
+    cells is what covered tells of the pile.
+    """
     dropped = ()
     i = 0
     while i < len(case[2]):
         saying = case[2][i]
         rest = without_saying(case, i)
-        ground = find_ground(rest, saying)
+        ground = ground_by(reasons_at(cells, rest), saying)
         if ground is None:
             i += 1
         else:
@@ -65,7 +68,7 @@ class Mover:
     def trim(self):
         """Drops each saying that follows from the others then, and returns the list of these."""
         case, order = self._last()
-        case, dropped = trimmed(case)
+        case, dropped = trimmed(self._cells, case)
         self._steps.append(((TRIM, dropped), case, order))
         return [saying for saying, ground in dropped]
 

@@ -1,7 +1,7 @@
 """The four places where a saying can stand: [23] of the document."""
 
 from laidsheets.books import base_of_table, find_book_ground, is_book_ground, row_ahead
-from laidsheets.following import find_ground, is_ground
+from laidsheets.following import ground_by, is_ground_by
 from laidsheets.orders import is_order_of
 from laidsheets.piles import is_integer, is_tuple
 from laidsheets.reasons import all_of, are_reasons, finish_order, mask_of, order_ahead, reasons_by_sheet, stuck_reasons
@@ -19,7 +19,7 @@ def find_standing(case, saying):
     order = order_ahead(table, s, mask_of(others))
     if order is not None:
         return ("broken", order)
-    spare = find_spare(case, saying)
+    spare = find_spare(table, saying)
     if spare is not None:
         return ("loose", spare[0], spare[1])
     base = base_of_table(table)
@@ -28,14 +28,14 @@ def find_standing(case, saying):
     return ("tight", find_book_ground(base, saying), tight_orders(table, saying))
 
 
-def find_spare(case, saying):
+def find_spare(table, saying):
     """Returns (o, ground): an other without which the saying follows, and its ground then; or None."""
     s, others = saying
-    if len(others) > 1:
-        for o in others:
-            ground = find_ground(case, (s, others_without(saying, o)))
-            if ground is not None:
-                return (o, ground)
+    # With one other alone none is left without it, and there is no such ground, as some order meets the case.
+    for o in others:
+        ground = ground_by(table, (s, others_without(saying, o)))
+        if ground is not None:
+            return (o, ground)
     return None
 
 
@@ -64,7 +64,7 @@ def is_standing(case, saying, value):
         return False
     kind, first, second = value
     if kind == "loose":
-        return is_spare(case, saying, first, second)
+        return is_spare(table, saying, first, second)
     if kind == "book":
         return is_in_base(table, saying, first, second)
     return kind == "tight" and is_tight(table, saying, first, second)
@@ -77,12 +77,12 @@ def is_ahead(table, s, others, value):
     return all([value.index(s) < value.index(other) for other in others])
 
 
-def is_spare(case, saying, o, ground):
+def is_spare(table, saying, o, ground):
     """Returns whether any values are one of two or more others, and a ground of the saying without it."""
     s, others = saying
     if not is_integer(o) or o not in others or len(others) == 1:
         return False
-    return is_ground(case, (s, others_without(saying, o)), ground)
+    return is_ground_by(table, (s, others_without(saying, o)), ground)
 
 
 def is_tight(table, saying, ground, orders):

@@ -279,7 +279,8 @@ class BookGrounds(unittest.TestCase):
                                      ((0, (2,)), {}, False), ((0, (2,)), {0: 1, 3: 3, 1: 2}, True), ((0, (2,)), {0: 1, 3: 3}, False),
                                      ((0, (2,)), {0: 0, 1: 2, 3: 3}, True), ((0, (1,)), {0: 0, 1: 2}, False), ((0, (2,)), {0: 0, 1: 1}, False),
                                      ((0, (2,)), {0: 0, 1: 2, 2: 2}, False), ((1, (2,)), {1: 2}, True), ((0, (2,)), {0: 0, 1: 4}, False),
-                                     ((0, (2,)), {0: 0, 1: -2}, False), ((0, (2,)), {0: -4, 1: 2}, False)):
+                                     ((0, (2,)), {0: 0, 1: -2}, False), ((0, (2,)), {0: -4, 1: 2}, False),
+                                     ((0, (1, 2)), {0: 0, 1: 2}, False), ((1, (2, 3)), {1: 2, 3: 3}, False)):
             self.told(right, BOOK, saying, value)
 
     def test_two_that_hold_one_another(self):

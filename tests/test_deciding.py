@@ -148,7 +148,9 @@ class IsPlan(unittest.TestCase):
     def test_cells_that_were_read_or_are_not_asked(self):
         for cell in ((0, 1), (0, 3), (1, 0), (-1, 0), (0, True), (0, 2.0 == 2), [0, 2], (0,), (0, 2, 0), 2, None, "b", ((0, 2),), (), {}):
             self.told(False, FIRST, ASK, 3, {(): (0, 1), (((0, 1), "a"),): cell})
-            self.told(False, FIRST, ASK[:2], 3, {(): cell} if cell != (0, 1) else {(): (0, 2)})
+            self.told(repr(cell) == "(0, 1)", FIRST, ASK[:2], 3, {(): cell})
+        self.told(False, FIRST, ASK[:2], 3, {(): (False, 1)})
+        self.told(False, FIRST, ASK, 3, {(): (0, 1), (((0, 1), "a"),): (False, 2)})
 
     def test_a_key_left_out(self):
         self.told(False, FIRST, ASK, 2, {(): (0, 1)})
