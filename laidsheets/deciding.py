@@ -9,10 +9,16 @@ from laidsheets.piles import covered, is_cell, is_tuple
 from laidsheets.reasons import holds, mask_of, reasons_by_sheet
 
 
+def letters_there(sheets):
+    """Returns the mask of the sheets of a list of (sheet, letter) at a cell, and a dict from them to the letters."""
+    letters = {s: letter for s, letter in sheets}
+    return (mask_of(letters), letters)
+
+
 def letters_shown(there, left, s):
     """Returns for each of some cells the letter that is seen there as s goes, '' if s does not show one.
 
-    there has for each cell the mask of the sheets that cover it and a dict from these to their letters.
+    there has for each cell what letters_there tells, and the sheets of the mask left are left with s.
     """
     return tuple([letters[s] if s in letters and holds(cover, left) else "" for cover, letters in there])
 
@@ -21,7 +27,7 @@ def showings(case, asked):
     """Returns the list of all showings."""
     steps = steps_of(reasons_by_sheet(case))
     cells = covered(case[0])
-    there = [(mask_of([s for s, letter in cells[cell]]), {s: letter for s, letter in cells[cell]}) for cell in asked]
+    there = [letters_there(cells[cell]) for cell in asked]
     # By what is left: all that can be shown from then on, a letter for each cell or ''.
     ends = {}
     for left in sorted(steps):
@@ -108,7 +114,7 @@ def find_plan(case, asked):
     while reached != []:
         told = reached.pop()
         if needs[told] > 0:
-            cell = min([cell for cell in unread(asked, told) if behind[(told, cell)] < needs[told]])
+            cell = min([at for at in unread(asked, told) if behind[(told, at)] < needs[told]])
             plan[told] = cell
             reached.extend(told_next(counts, letters, told, cell))
     return plan

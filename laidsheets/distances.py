@@ -42,7 +42,7 @@ def order_apart(case, row, number):
         return None
     order = []
     while left > 0:
-        s = min([s for s in steps[left] if some_cost(counts, left - (1 << s), number - costs[s][left])])
+        s = min([t for t in steps[left] if some_cost(counts, left - (1 << t), number - costs[t][left])])
         order.append(s)
         number -= costs[s][left]
         left -= 1 << s

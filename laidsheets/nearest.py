@@ -41,7 +41,7 @@ def least_order(steps, costs, least):
     order = []
     left = max(least)
     while left > 0:
-        s = min([s for s in steps[left] if costs[s][left] + least[left - (1 << s)] == least[left]])
+        s = min([t for t in steps[left] if costs[t][left] + least[left - (1 << t)] == least[left]])
         order.append(s)
         left -= 1 << s
     return tuple(order)
